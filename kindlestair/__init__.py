@@ -1,0 +1,1 @@
+"""Kindlestair: hearths that are kindled over hearths that burn."""

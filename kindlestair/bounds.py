@@ -1,0 +1,7 @@
+"""The bounds that hold throughout the package."""
+
+MOST = 16
+SMALL = 8
+MOST_STORES = 3
+MOST_HUNGER = 9
+LONGEST_NAME = 6
