@@ -16,6 +16,9 @@ INTERFACE = {
                "NoStore", "NoDeed", "NoLog", "NoSay", "StateError", "Burns", "Dark", "Cold", "Wanting", "NoBack",
                "TooMany"),
     "webs": ("Web",),
+    "standings": ("draws", "is_standing"),
+    "reaches": ("reached", "alone"),
+    "rests": ("loose", "rest", "leads", "may_burn"),
 }
 WEB_METHODS = ("names", "hungers", "feeders", "above", "built", "__eq__", "__len__", "__str__", "__repr__")
 BUILTINS = set(
