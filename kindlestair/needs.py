@@ -46,11 +46,11 @@ class Needs:
         return [plus(hungers, need) for feeder in self.beneath[name] for need in self.needs(feeder, source)]
 
     def needs(self, name, source):
-        """The least spares by which the hearth is reached over the source, or from the ground beneath it."""
-        found = self.rising_needs(name, GROUND)
-        if source != GROUND and name in self.over[source]:
-            found = least_ones(found + self.rising_needs(name, source), self.most)
-        return found
+        """Spares by which the hearth is reached over the source, or from the ground, the least ones among them."""
+        from_ground = self.rising_needs(name, GROUND)
+        if source == GROUND or name not in self.over[source]:
+            return from_ground
+        return from_ground + self.rising_needs(name, source)
 
     def rising_needs(self, name, source):
         """The least spares by which the hearth is reached over hearths left alone, each above the one ahead.

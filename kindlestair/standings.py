@@ -37,6 +37,11 @@ def spare_of(web, gives, names):
     return less(gives, drawn(web, names))
 
 
+def taken_out(standing, name):
+    """The standing without the hearth."""
+    return tuple([other for other in standing if other != name])
+
+
 def first_wanting(web, gives, names):
     """The first store of which the names draw too much, None where there is none."""
     for store, left in enumerate(spare_of(web, gives, names)):
@@ -69,6 +74,13 @@ def check_standing(web, gives, standing):
     store = first_wanting(web, gives, standing)
     if store is not None:
         raise NoStanding(store)
+
+
+def check_asked(web, gives, standing):
+    """Refuses what is no Web, no gives of it, or no standing by these, in this order."""
+    check_web(web)
+    check_gives(web, gives)
+    check_standing(web, gives, standing)
 
 
 def draws(web, names):

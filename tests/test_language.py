@@ -19,6 +19,10 @@ INTERFACE = {
     "standings": ("draws", "is_standing"),
     "reaches": ("reached", "alone"),
     "rests": ("loose", "rest", "leads", "may_burn"),
+    "switches": ("switched", "gone"),
+    "stairs": ("steps",),
+    "ways": ("row_down", "row_to", "row_for"),
+    "checker": ("holds",),
 }
 WEB_METHODS = ("names", "hungers", "feeders", "above", "built", "__eq__", "__len__", "__str__", "__repr__")
 BUILTINS = set(
@@ -35,6 +39,10 @@ BARRED_NAMES = set(
 DOUBLE = set(
     "__init__ __eq__ __repr__ __str__ __len__ __enter__ __exit__ __call__ __iter__ __lt__ __le__ __gt__ __ge__ "
     "__ne__ __bool__ __contains__ __getitem__ __setitem__".split())
+BUILTIN_METHODS = set(
+    "append clear copy count endswith extend find get index insert isalnum isalpha isdigit islower isspace isupper "
+    "items join keys ljust lower lstrip partition pop remove replace reverse rfind rjust rpartition rsplit rstrip "
+    "setdefault split splitlines startswith strip update upper values zfill bit_length".split())
 BARRED_NODES = (ast.Global, ast.AsyncFunctionDef, ast.Await, ast.Div, ast.Import)
 
 
@@ -111,6 +119,33 @@ class Language(unittest.TestCase):
         methods = {row.name for _, node in nodes(ast.ClassDef) for row in node.body if isinstance(row, ast.FunctionDef)}
         attributes = {node.attr for _, node in nodes(ast.Attribute) if isinstance(node.ctx, ast.Store)}
         self.assertEqual(methods & attributes, set())
+
+    def test_no_method_and_attribute_of_no_class(self):
+        own = {row.name for _, node in nodes(ast.ClassDef) for row in node.body if isinstance(row, ast.FunctionDef)}
+        own |= {node.attr for _, node in nodes(ast.Attribute) if isinstance(node.ctx, ast.Store)}
+        for path, node in nodes(ast.Attribute):
+            self.assertIn(node.attr, own | BUILTIN_METHODS, path.name)
+
+    def test_no_local_name_is_that_of_a_class_or_an_import(self):
+        for path, tree in trees():
+            taken = {alias.name for node in tree.body if isinstance(node, ast.ImportFrom) for alias in node.names}
+            taken |= {node.name for node in tree.body if isinstance(node, ast.ClassDef)}
+            for node in ast.walk(tree):
+                if isinstance(node, ast.FunctionDef):
+                    names = {part.arg for part in ast.walk(node.args) if isinstance(part, ast.arg)}
+                    names |= {part.id for part in ast.walk(node)
+                              if isinstance(part, ast.Name) and isinstance(part.ctx, ast.Store)}
+                    self.assertEqual(names & taken, set(), (path.name, node.name))
+
+    def test_lists_and_dicts_at_module_level_are_only_read(self):
+        for path, tree in trees():
+            tables = {target.id for node in tree.body if isinstance(node, ast.Assign)
+                      if isinstance(node.value, (ast.List, ast.Dict)) for target in node.targets}
+            free = {id(node.value) for node in ast.walk(tree) if isinstance(node, ast.Subscript)}
+            free |= {id(part) for node in ast.walk(tree) if isinstance(node, ast.Compare) for part in node.comparators}
+            for node in ast.walk(tree):
+                if isinstance(node, ast.Name) and node.id in tables and isinstance(node.ctx, ast.Load):
+                    self.assertIn(id(node), free, (path.name, node.id))
 
     def test_barred_forms(self):
         self.assertEqual([(path.name, node) for path, node in nodes(BARRED_NODES)], [])

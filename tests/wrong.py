@@ -26,7 +26,7 @@ SWITCHES = odd_things() + [
     ("kindle", ["a"]), ("kindle", ("a",)), (("kindle",), "a"), ("kindle", None), (None, "a"), (True, "a"),
     ("kindle", True), ("out", 1), (1, "a"), {"kindle": "a"}, (("kindle", "a"),), (b"out", "a"), ("out", b"a"),
     ("out", {}), ({}, "a"), ("out", "a", None),
-]
+] + [("out", thing) for thing in odd_things()] + [(thing, "b") for thing in odd_things()]
 ROWS = [thing for thing in odd_things() + [0, 1, "a", [("kindle", "b")], {"kindle": "b"}] if not isinstance(thing, tuple)]
 
 
