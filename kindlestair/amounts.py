@@ -16,6 +16,11 @@ def larger(one, other):
     return tuple([max(here, there) for here, there in zip(one, other)])
 
 
+def with_store(amount, store, many):
+    """The amount with another number in the place of one store's."""
+    return amount[:store] + (many,) + amount[store + 1:]
+
+
 def within(one, other):
     """Whether the one is no more than the other, of each store."""
     return all([here <= there for here, there in zip(one, other)])

@@ -29,6 +29,18 @@ def rest_of(needs, web, gives, standing):
     return standing
 
 
+def are_together(needs, web, gives, one, other):
+    """Whether the one standing leads to the other."""
+    return rest_of(needs, web, gives, one) == rest_of(needs, web, gives, other)
+
+
+def may_burn_of(needs, web, gives, standing):
+    """All that burn in some standing to which this one leads, in the web's order."""
+    left = rest_of(needs, web, gives, standing)
+    spare = spare_of(web, gives, left)
+    return tuple([name for name in web.names() if name in left or needs.reaches_over(name, left, spare)])
+
+
 def loose(web, gives, standing):
     """The hearths of the standing that can be put out ahead of all others of it, in the web's order."""
     check_asked(web, gives, standing)
@@ -45,14 +57,10 @@ def leads(web, gives, one, other):
     """Whether some row of switches goes from the one standing to the other."""
     check_asked(web, gives, one)
     check_standing(web, gives, other)
-    needs = Needs(web, gives)
-    return rest_of(needs, web, gives, one) == rest_of(needs, web, gives, other)
+    return are_together(Needs(web, gives), web, gives, one, other)
 
 
 def may_burn(web, gives, standing):
     """All that burn in some standing to which this one leads, in the web's order."""
     check_asked(web, gives, standing)
-    needs = Needs(web, gives)
-    left = rest_of(needs, web, gives, standing)
-    spare = spare_of(web, gives, left)
-    return tuple([name for name in web.names() if name in left or needs.reaches_over(name, left, spare)])
+    return may_burn_of(Needs(web, gives), web, gives, standing)

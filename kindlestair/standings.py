@@ -13,13 +13,15 @@ def are_gives(web, thing):
     return all([is_whole(many, 0, MOST_GIVEN) for many in thing])
 
 
+def is_name_of(web, thing):
+    """Whether a thing of any kind is the name of a hearth of the web."""
+    # Only texts are compared: other things may be ones that can't be.
+    return isinstance(thing, str) and thing in web.names()
+
+
 def are_names(web, thing):
     """Whether a thing of any kind is a rising tuple of names of the web."""
-    if not isinstance(thing, tuple):
-        return False
-    names = web.names()
-    # Only texts are compared: other things may be ones that can't be.
-    if not all([isinstance(name, str) and name in names for name in thing]):
+    if not isinstance(thing, tuple) or not all([is_name_of(web, name) for name in thing]):
         return False
     return all([here < there for here, there in zip(thing, thing[1:])])
 
@@ -40,6 +42,11 @@ def spare_of(web, gives, names):
 def taken_out(standing, name):
     """The standing without the hearth."""
     return tuple([other for other in standing if other != name])
+
+
+def put_in(standing, name):
+    """The standing's names with one more, rising."""
+    return tuple(sorted(standing + (name,)))
 
 
 def first_wanting(web, gives, names):

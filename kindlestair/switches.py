@@ -1,7 +1,7 @@
 """Switches: hearths kindled and put out, one behind the other."""
 
 from kindlestair.errors import Burns, Cold, Dark, NoRow, NoSwitch, Wanting
-from kindlestair.standings import check_asked, first_wanting, taken_out
+from kindlestair.standings import check_asked, first_wanting, is_name_of, put_in, taken_out
 
 KINDLE = "kindle"
 OUT = "out"
@@ -9,12 +9,9 @@ OUT = "out"
 
 def is_switch(web, thing):
     """Whether a thing of any kind is a switch of a hearth of the web."""
-    if not isinstance(thing, tuple) or len(thing) != 2:
+    if not isinstance(thing, tuple) or len(thing) != 2 or not isinstance(thing[0], str):
         return False
-    # Only texts are compared: other things may be ones that can't be.
-    if not all([isinstance(part, str) for part in thing]):
-        return False
-    return thing[0] in (KINDLE, OUT) and thing[1] in web.names()
+    return thing[0] in (KINDLE, OUT) and is_name_of(web, thing[1])
 
 
 def check_fire(web, standing, name):
@@ -24,22 +21,37 @@ def check_fire(web, standing, name):
         raise Cold(name)
 
 
-def kindled(web, gives, standing, name):
-    """The standing behind the kindling of a hearth."""
+def check_dark(standing, name):
+    """Burns where the hearth does."""
     if name in standing:
         raise Burns(name)
-    check_fire(web, standing, name)
-    burning = tuple(sorted(standing + (name,)))
+
+
+def check_burns(standing, name):
+    """Dark where the hearth is."""
+    if name not in standing:
+        raise Dark(name)
+
+
+def lit(web, gives, standing, name):
+    """The standing with one more, over whatever; Wanting where it is none."""
+    burning = put_in(standing, name)
     store = first_wanting(web, gives, burning)
     if store is not None:
         raise Wanting(store)
     return burning
 
 
+def kindled(web, gives, standing, name):
+    """The standing behind the kindling of a hearth."""
+    check_dark(standing, name)
+    check_fire(web, standing, name)
+    return lit(web, gives, standing, name)
+
+
 def put_out(web, standing, name):
     """The standing behind the putting out of a hearth."""
-    if name not in standing:
-        raise Dark(name)
+    check_burns(standing, name)
     check_fire(web, standing, name)
     return taken_out(standing, name)
 

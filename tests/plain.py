@@ -105,3 +105,33 @@ def all_may_burn(hearths, gives):
     for standing, at in number.items():
         burning_in[at] |= set(standing)
     return {standing: in_order(hearths, burning_in[at]) for standing, at in number.items()}
+
+
+def lots_by_number(hearths, gives, store):
+    """For each number from 0 to 60 in the place of what the store gives the lots of all standings."""
+    total = sum([hungers[store] for _, hungers, _ in hearths])
+    rows = []
+    for number in range(61):
+        # More than all hearths draw together does as that.
+        same = rows[-1] if number > total else lots(hearths, gives[:store] + (number,) + gives[store + 1:])
+        rows.append(same)
+    return rows
+
+
+def led_by(rows, one, other):
+    """The numbers by which both are standings that lead to one another."""
+    return [number for number, lot in enumerate(rows) if one in lot and other in lot and lot[one] == lot[other]]
+
+
+def freed(hearths, gives, standing):
+    """Whether the names are a standing that leads to that in which nothing burns."""
+    return fits(hearths, standing, gives) and frozenset() in led_to(hearths, gives, standing)
+
+
+def freeing(hearths, gives, standing):
+    return in_order(hearths, [name for name in standing if freed(hearths, gives, set(standing) - {name})])
+
+
+def sparks(hearths, gives, standing):
+    dark = [hearth[0] for hearth in hearths if hearth[0] not in standing]
+    return in_order(hearths, [name for name in dark if freed(hearths, gives, {*standing, name})])

@@ -1,6 +1,6 @@
 import unittest
 
-from kindlestair.amounts import larger, least_ones, less, plus, within
+from kindlestair.amounts import larger, least_ones, less, plus, with_store, within
 
 
 class Amounts(unittest.TestCase):
@@ -8,6 +8,12 @@ class Amounts(unittest.TestCase):
         self.assertEqual(plus((1, 2, 3), (4, 0, 6)), (5, 2, 9))
         self.assertEqual(less((1, 2, 3), (4, 0, 3)), (-3, 2, 0))
         self.assertEqual(larger((1, 5, 3), (4, 0, 3)), (4, 5, 3))
+
+    def test_another_number_for_one_store(self):
+        self.assertEqual(with_store((1, 2, 3), 0, 9), (9, 2, 3))
+        self.assertEqual(with_store((1, 2, 3), 1, 9), (1, 9, 3))
+        self.assertEqual(with_store((1, 2, 3), 2, 9), (1, 2, 9))
+        self.assertEqual(with_store((1,), 0, 0), (0,))
 
     def test_within(self):
         self.assertIs(within((1, 2), (1, 2)), True)

@@ -23,8 +23,15 @@ INTERFACE = {
     "stairs": ("steps",),
     "ways": ("row_down", "row_to", "row_for"),
     "checker": ("holds",),
+    "leasts": ("least",),
+    "gusts": ("freeing", "sparks"),
+    "houses": ("House", "replayed"),
 }
-WEB_METHODS = ("names", "hungers", "feeders", "above", "built", "__eq__", "__len__", "__str__", "__repr__")
+METHODS = {
+    "Web": ("names", "hungers", "feeders", "above", "built", "__eq__", "__len__", "__str__", "__repr__"),
+    "House": ("do", "do_all", "back", "web", "gives", "burning", "spare", "rest", "may_burn", "log", "__eq__",
+              "__len__", "__str__", "__repr__"),
+}
 BUILTINS = set(
     "len range enumerate zip min max sum abs sorted reversed int str bool bytes list tuple dict set frozenset "
     "isinstance ord repr any all divmod iter next Exception ValueError TypeError KeyError IndexError LookupError "
@@ -169,9 +176,9 @@ class Language(unittest.TestCase):
                 self.assertIn(name, defined)
 
     def test_the_methods_stand_in_the_class_itself(self):
-        for _, node in nodes(ast.ClassDef):
-            if node.name == "Web":
-                self.assertLessEqual(set(WEB_METHODS), {row.name for row in node.body if hasattr(row, "name")})
+        classes = {node.name: node for _, node in nodes(ast.ClassDef)}
+        for word, methods in METHODS.items():
+            self.assertLessEqual(set(methods), {row.name for row in classes[word].body if hasattr(row, "name")})
 
 
 if __name__ == "__main__":

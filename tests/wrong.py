@@ -2,7 +2,7 @@
 
 import copy
 
-from kindlestair.errors import NoGives, NoName, NoRow, NoStanding, NoSwitch, NoWeb
+from kindlestair.errors import NoGives, NoLog, NoName, NoRow, NoStanding, NoStore, NoSwitch, NoWeb
 from kindlestair.webs import Web
 from samples import odd_things
 
@@ -48,11 +48,17 @@ def wrong_things(kind):
     if kind == "name":
         things = odd_things() + ["x", "ab", "", ("a",), ["a"], 0, 1, ("kindle", "a"), b"a"]
         return [(thing, NoName, {"name": thing}) for thing in things]
+    if kind == "store":
+        things = odd_things() + [2, 3, 60, "a", "0", (), (0,), [1], ("a",), b"1", {0: 1}]
+        return [(thing, NoStore, {}) for thing in things]
+    if kind == "deeds":
+        return [(thing, NoLog, {"place": None}) for thing in ROWS]
     return []
 
 
 RIGHT = {"web": WEB, "gives": GIVES, "names": ("a", "b"), "standing": ("b", "c"), "thing": None,
-         "switch": ("kindle", "a"), "row": (("kindle", "a"),), "name": "d"}
+         "switch": ("kindle", "a"), "row": (("kindle", "a"),), "name": "d", "store": 1,
+         "deeds": (("kindle", "b"), ("give", 0, 60))}
 
 
 class WrongInputs:
