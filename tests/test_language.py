@@ -26,11 +26,16 @@ INTERFACE = {
     "leasts": ("least",),
     "gusts": ("freeing", "sparks"),
     "houses": ("House", "replayed"),
+    "webtexts": ("read_web",),
+    "small": ("rests", "lot", "fewest"),
+    "papers": ("paper_leads", "paper_burns", "paper_goes", "paper_least"),
+    "desk": ("Desk",),
 }
 METHODS = {
     "Web": ("names", "hungers", "feeders", "above", "built", "__eq__", "__len__", "__str__", "__repr__"),
     "House": ("do", "do_all", "back", "web", "gives", "burning", "spare", "rest", "may_burn", "log", "__eq__",
               "__len__", "__str__", "__repr__"),
+    "Desk": ("say",),
 }
 BUILTINS = set(
     "len range enumerate zip min max sum abs sorted reversed int str bool bytes list tuple dict set frozenset "
