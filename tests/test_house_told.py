@@ -11,7 +11,6 @@ from kindlestair.webs import Web
 from samples import AlikeToAll, odd_things
 
 
-
 class Told(unittest.TestCase):
     def test_held_against_the_functions(self):
         burned = 0

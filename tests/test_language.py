@@ -2,10 +2,19 @@
 
 import ast
 import builtins
+import inspect
 import pathlib
 import re
+import sys
 import unittest
 import warnings
+
+import grown
+from kindlestair.checker import holds
+from kindlestair.leasts import least
+from kindlestair.papers import paper_burns, paper_leads
+from kindlestair.reaches import alone
+from kindlestair.webs import Web
 
 ROOT = pathlib.Path(__file__).resolve().parent.parent
 PACKAGE = ROOT / "kindlestair"
@@ -108,6 +117,16 @@ class Language(unittest.TestCase):
             for alias in node.names:
                 self.assertIn(alias.name, defined[module], path.name)
 
+    def test_no_two_files_import_from_each_other(self):
+        behind = {path.stem: set() for path in FILES}
+        for path, node in nodes(ast.ImportFrom):
+            behind[path.stem].add(node.module.partition(".")[2])
+        while behind:
+            ready = [stem for stem, modules in behind.items() if not modules & set(behind)]
+            self.assertTrue(ready, behind)
+            for stem in ready:
+                del behind[stem]
+
     def test_barred_words(self):
         for path in FILES:
             self.assertIsNone(BARRED_WORDS.search(text_of(path)), path.name)
@@ -174,6 +193,11 @@ class Language(unittest.TestCase):
             if isinstance(node.func, ast.Name) and node.func.id in ("any", "all", "min", "max", "sum", "sorted"):
                 self.assertNotIsInstance(node.args[0], ast.GeneratorExp, path.name)
 
+    def test_raise_makes_its_error_on_the_spot(self):
+        for path, node in nodes(ast.Raise):
+            self.assertIsInstance(node.exc, ast.Call, path.name)
+            self.assertIn(node.exc.func.id, INTERFACE["errors"], path.name)
+
     def test_the_interface_is_defined_in_its_files(self):
         for module, names in INTERFACE.items():
             defined = defined_in(ast.parse(text_of(PACKAGE / f"{module}.py")))
@@ -184,6 +208,27 @@ class Language(unittest.TestCase):
         classes = {node.name: node for _, node in nodes(ast.ClassDef)}
         for word, methods in METHODS.items():
             self.assertLessEqual(set(methods), {row.name for row in classes[word].body if hasattr(row, "name")})
+
+
+class Depth(unittest.TestCase):
+    def test_no_deep_recursion(self):
+        stair = grown.stair([(1,)] * 16)
+        full = tuple([(name, (1,), tuple(grown.LETTERS[:at])) for at, name in enumerate(grown.LETTERS)])
+        turns = tuple([(name, (at % 2, (at + 1) % 2), feeders) for at, (name, _, feeders) in enumerate(stair)])
+        ahead = sys.getrecursionlimit()
+        sys.setrecursionlimit(len(inspect.stack()) + 250)
+        try:
+            for stores, hearths in ((1, stair), (1, full), (2, turns)):
+                for by in (1, 2, 3, 4, 5, 9, 60):
+                    self.ask(Web(stores, hearths), (by,) * stores)
+        finally:
+            sys.setrecursionlimit(ahead)
+
+    def ask(self, web, gives):
+        alone(web, gives)
+        least(web, gives, (), ("p",), 0)
+        self.assertIs(holds(*paper_leads(web, gives, ("p",), ())), True)
+        self.assertIs(holds(*paper_burns(web, gives, (), "p")), True)
 
 
 if __name__ == "__main__":
